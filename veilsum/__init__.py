@@ -1,0 +1,1 @@
+"""Veilsum: hands that reckon together on numbers that none of them may see."""
