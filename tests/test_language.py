@@ -69,6 +69,45 @@ def bound_names(tree):
     return found
 
 
+def local_names(tree):
+    functions = [node for node in ast.walk(tree) if isinstance(node, (ast.FunctionDef, ast.Lambda))]
+    found = set()
+    for function in functions:
+        found.update(node.arg for node in ast.walk(function) if isinstance(node, ast.arg))
+        found.update(
+            node.id for node in ast.walk(function) if isinstance(node, ast.Name) and isinstance(node.ctx, ast.Store)
+        )
+    return found
+
+
+def drawn_from(tree):
+    return [node.module for node in ast.walk(tree) if isinstance(node, ast.ImportFrom)]
+
+
+def walked_on_the_spot(tree):
+    """The places at which what can be walked but once may stand."""
+    found = []
+    for node in ast.walk(tree):
+        if isinstance(node, (ast.For, ast.comprehension)):
+            found.append(node.iter)
+        elif isinstance(node, ast.Call) and isinstance(node.func, ast.Name):
+            if node.func.id in ("enumerate", "zip"):
+                found.extend(node.args)
+            elif node.func.id in ("list", "tuple", "dict", "sorted", "sum", "any", "all"):
+                found.extend(node.args[:1])
+            elif node.func.id in ("min", "max") and len(node.args) == 1:
+                found.extend(node.args)
+        elif isinstance(node, ast.Call) and isinstance(node.func, ast.Attribute) and node.func.attr == "join":
+            found.extend(node.args)
+    return found
+
+
+def called(node):
+    if isinstance(node.func, ast.Attribute):
+        return node.func.attr
+    return node.func.id if isinstance(node.func, ast.Name) else ""
+
+
 class Language(unittest.TestCase):
     def test_files_and_signs(self):
         for path in sources():
@@ -140,6 +179,51 @@ class Language(unittest.TestCase):
                     bound.extend(bound_names(part))
             with self.subTest(file=name):
                 self.assertEqual(len(bound), len(set(bound)))
+
+    def test_locals_are_not_called_like_classes_or_imports(self):
+        for name, tree in trees():
+            taken = {alias.asname or alias.name for node in tree.body if isinstance(node, ast.ImportFrom)
+                     for alias in node.names}
+            taken.update(node.name for node in tree.body if isinstance(node, ast.ClassDef))
+            with self.subTest(file=name):
+                self.assertEqual(local_names(tree) & taken, set())
+
+    def test_no_two_files_draw_from_one_another(self):
+        left = {"veilsum." + name[:-3]: drawn_from(tree) for name, tree in trees()}
+        while left:
+            free = [module for module, drawn in left.items() if not set(drawn) & set(left)]
+            self.assertNotEqual(free, [], left)
+            for module in free:
+                left.pop(module)
+
+    def test_walked_at_once(self):
+        once = ("zip", "enumerate", "reversed", "range", "items", "keys", "values")
+        for name, tree in trees():
+            let = walked_on_the_spot(tree)
+            for node in ast.walk(tree):
+                if isinstance(node, ast.Call) and called(node) in once:
+                    with self.subTest(file=name, line=node.lineno):
+                        self.assertIn(node, let)
+
+    def test_methods_and_values_are_called_unlike(self):
+        methods = {part.name for _, node in nodes(ast.ClassDef) for part in node.body
+                   if isinstance(part, ast.FunctionDef)}
+        values = {node.attr for _, node in nodes(ast.Attribute) if isinstance(node.ctx, ast.Store)}
+        self.assertEqual(methods & values, set())
+
+    def test_written_exponents(self):
+        for name, node in nodes(ast.BinOp):
+            if isinstance(node.op, ast.Pow):
+                with self.subTest(file=name, line=node.lineno):
+                    self.assertIsInstance(node.right, ast.Constant)
+
+    def test_dicts_and_lists_of_a_files_top_hold_none(self):
+        for name, tree in trees():
+            for part in tree.body:
+                if isinstance(part, ast.Assign):
+                    inner = [node for node in ast.walk(part.value) if isinstance(node, (ast.List, ast.Dict))]
+                    with self.subTest(file=name, line=part.lineno):
+                        self.assertEqual([node for node in inner if node != part.value], [])
 
     def test_only_the_names_of_python_that_are_let(self):
         for name, node in nodes(ast.Name):

@@ -6,12 +6,53 @@ import unittest
 from reckon import all_tables
 from veilsum.errors import VeilError
 from veilsum.field import Table, back, through, weights, worth
+from veilsum.rounds import run
 from veilsum.shares import dealt, mended
+from veilsum.sight import exchanged, seen, veil
+from veilsum.steps import needs, plain, right
+
+
+def steps():
+    return [
+        ("in", 1), ("in", 4), ("fix", 6), ("sum", 0, 1), ("open", 3), ("open", 4), ("by", 1, 3), ("less", 6, 2),
+        ("mul", 0, 1), ("anew", 8),
+    ]
+
+
+def inputs():
+    return [[3, 1], [2], [], [5], [6]]
+
+
+def others():
+    return [[1], [2], [0], [0, 4], []]
+
+
+def chance():
+    return [1, 2, 3, 4, 5, 6, 0, 1, 2, 3, 4, 5] * 2
 
 
 def calls():
     """Every function with arguments that it answers and, where it has some, that it refuses."""
     return [
+        (right, [steps()]),
+        (right, [[]]),
+        (needs, [steps()]),
+        (needs, [[("open", 0)]]),
+        (plain, [steps(), inputs()]),
+        (plain, [steps(), []]),
+        (run, [steps(), inputs(), chance()]),
+        (run, [steps(), inputs(), [1, 2]]),
+        (seen, [steps(), inputs(), chance(), [1, 2]]),
+        (seen, [steps(), inputs(), chance(), [1, 2, 3, 4, 5]]),
+        (seen, [steps(), inputs(), chance(), []]),
+        (seen, [steps(), inputs(), chance(), [2, 1]]),
+        (veil, [[2, 3]]),
+        (veil, [[]]),
+        (veil, [[1, 2, 3]]),
+        (exchanged, [steps(), inputs(), others(), chance(), [2, 3]]),
+        (exchanged, [steps(), inputs(), others(), chance(), []]),
+        (exchanged, [steps(), inputs(), inputs(), chance(), [1, 4]]),
+        (exchanged, [steps(), inputs(), others(), chance(), [1]]),
         (back, [3]),
         (back, [0]),
         (worth, [[1, 2, 3], 4]),
@@ -94,6 +135,23 @@ class OwnLists(unittest.TestCase):
         before = [answer(function, table, arguments) for function, arguments in calls()]
         after = [answer(function, table, arguments) for function, arguments in reversed(calls())]
         self.assertEqual(before, after[::-1])
+
+    def test_one_list_handed_in_for_several(self):
+        # Whoever hands in one list for all hands is still told lists of which no two are one.
+        table = Table(7, 5, 2)
+        own = [3, 1]
+        row = [own] * 5
+        told = seen(table, steps(), row, chance(), [1, 2, 4])
+        self.assertEqual(told[0], [[3], [], [3]])
+        held = [own, row] + lists_in(told)
+        self.assertEqual(len({id(one) for one in held}), len(held))
+        self.assertEqual(exchanged(table, steps(), row, row, chance(), [1, 2]), chance())
+
+    def test_the_shares_of_an_open_are_a_list_of_their_own(self):
+        shares = run(Table(7, 5, 2), steps(), inputs(), chance())[0]
+        kept = list(shares[3])
+        shares[4][0] = 99
+        self.assertEqual([shares[3], shares[5]], [kept, kept])
 
     def test_tables_do_not_mix(self):
         tables = all_tables()
